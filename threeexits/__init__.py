@@ -1,0 +1,1 @@
+"""Threeexits: drawing by straight strokes."""
