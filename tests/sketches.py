@@ -70,6 +70,9 @@ HANGING = sketch(3, TRIANGLE + [(2, 2), (5, 2), (2, 5), (3, 3)],
                  TRIANGLE_FRAME + [(0, 3), (3, 4), (4, 5), (5, 3), (3, 6), (4, 6), (5, 6)])
 HANGING_STRAIGHT = sketch(3, TRIANGLE + [(2, 2), (5, 2), (2, 5), (3, 3)],
                           TRIANGLE_FRAME + [(0, 3, 6), (3, 4), (4, 5), (5, 3), (4, 6), (5, 6)])
+HANGING_WITHIN = sketch(3, TRIANGLE + [(1, 8), (1, 9), (1.6, 8.5), (1.2, 8.5), (1, 7), (0, 6), (3, 9)],
+                        [(0, 1), (1, 9, 2), (2, 8, 0), (3, 4), (4, 5), (5, 3), (3, 6), (4, 6), (5, 6),
+                         (3, 7), (8, 7, 9)])
 HANGING_BY_A_CUT = sketch(3, TRIANGLE + [(2, 2), (5, 2), (2, 5), (3, 3), (8, 0), (8, 4)],
                           [(0, 7, 1), (1, 8, 2), (2, 0), (7, 8),
                            (0, 3), (3, 4), (4, 5), (5, 3), (3, 6), (4, 6), (5, 6)])
@@ -82,13 +85,35 @@ PENTAGON = sketch(5, [(0, 0), (8, 0), (10, 6), (4, 10), (-2, 6), (3, 3), (6, 3),
                   [(0, 8, 1), (1, 2), (2, 3), (3, 4), (4, 0),
                    (5, 6), (6, 7), (7, 5), (0, 5), (8, 6), (2, 6), (3, 7), (4, 5)])
 
+# A triangle of walls with a star in it, tied to the corners; in the other one a wall comes in from corner 0.
+RING = sketch(3, TRIANGLE + [(2, 2), (7, 2), (2, 7), (3.5, 3.5)],
+              TRIANGLE_FRAME + [(0, 3), (1, 4), (2, 5), (3, 4), (4, 5), (5, 3), (3, 6), (4, 6), (5, 6)])
+CROSSED_RING = sketch(3, RING[1], TRIANGLE_FRAME + [(0, 3, 6), (1, 4), (2, 5), (3, 4), (4, 5), (5, 3), (4, 6), (5, 6)])
+# Two walls with the same two ends.
+LENS = sketch(3, TRIANGLE + [(4, 0), (6, 6), (4, 5)], [(0, 3, 1), (1, 4, 2), (2, 0), (3, 5, 4), (3, 4), (2, 5)])
+# Two stars between two places on the frame.
+BIGON = sketch(3, TRIANGLE + [(4, 0), (6, 6), (4, 4), (6, 2)],
+               [(0, 3, 1), (1, 4, 2), (2, 0), (3, 5), (3, 6), (5, 6), (5, 4), (6, 4)])
+# A star between three sides of a square.
+TEE_STAR = sketch(4, SQUARE + [(2, 3), (2, 0), (6, 3), (2, 6)],
+                  [(0, 5, 1), (1, 6, 2), (2, 7, 3), (3, 0), (4, 5), (4, 6), (4, 7)])
+# A room of five places, three of them stars with ties to corner 2.
+BOWL = sketch(3, TRIANGLE + [(7, 3), (4, 4), (1, 2)],
+              TRIANGLE_FRAME + [(1, 3), (3, 4), (4, 5), (5, 0), (2, 3), (2, 4), (2, 5)])
+
 SKETCHES = {f"bare {sides}": bare(sides) for sides in range(3, 9)}
 SKETCHES.update({
     "split": SPLIT, "tee": TEE, "star": STAR, "pinwheel": PINWHEEL, "hanging": HANGING,
-    "hanging straight": HANGING_STRAIGHT, "hanging by a cut": HANGING_BY_A_CUT,
+    "hanging straight": HANGING_STRAIGHT, "hanging within": HANGING_WITHIN, "hanging by a cut": HANGING_BY_A_CUT,
+    "ring": RING, "crossed ring": CROSSED_RING, "lens": LENS, "bigon": BIGON, "tee star": TEE_STAR, "bowl": BOWL,
     "two hanging": TWO_HANGING, "octagon": OCTAGON, "pentagon": PENTAGON,
     "fan": fan(5), "crossed fan": crossed_fan(4), "wheel": wheel(3), "full fan": fan(37),
     "full crossed fan": crossed_fan(35), "full wheel": wheel(34)})
+
+
+# Full plans some of whose lots are narrow.
+HANGING_IN_A_FAN = fan(30, [(20, 0.2), (25, 0.2), (25, 0.5), (24, 0.3)],
+                       [(0, 33), (33, 34), (34, 35), (35, 33), (33, 36), (34, 36), (35, 36)])
 
 
 def plan_of(sketched):

@@ -11,6 +11,13 @@ FUNCTIONS = {
     "places": {"many_places": ["plan"], "ties": ["plan"], "rooms": ["plan"], "walls_at": ["plan", "place"],
                "alikes": ["plan", "other"], "lies_on": ["plan", "place"], "mirrored": ["plan"],
                "renamed": ["plan", "names"]},
+    "lots": {"is_lot": ["plan", "thing"], "can_build": ["plan"], "is_narrow": ["plan", "thing"],
+             "closed": ["plan", "walls"], "exits": ["plan", "lot"], "narrow": ["plan"], "all_lots": ["plan"],
+             "all_narrow": ["plan"]},
+    "drawing": {"is_frame": ["sides", "thing"], "is_weights": ["plan", "thing"], "plain_frame": ["sides"],
+                "even_weights": ["plan"], "drawing": ["plan", "frame", "weights"]},
+    "built": {"fault": ["plan", "thing"], "is_built": ["plan", "thing"], "areas": ["plan", "drawing"],
+              "hit": ["plan", "drawing", "point"], "picture": ["plan", "drawing", "wide", "high"]},
 }
 CLASSES = {
     "plans": {"Plan": {"__init__": ["self", "sides", "walls", "rounds"], "__eq__": ["self", "other"]}},

@@ -1,4 +1,4 @@
-"""What plans are made of, below the plans: rows of integers, ties, rounds and rims.
+"""What plans are made of, below the plans: rows of integers, ties, walls that meet, rounds and rims.
 
 A round is called a ring here, a tie that is walked one way a step (from, to).
 """
@@ -28,17 +28,33 @@ def nears_along(many, walls):
     return nears
 
 
-def all_together(nears):
-    """Whether ties lead from the first place to each other one."""
-    reached = {0: True}
-    todo = [0]
+def reached_from(nears, first):
+    """A dict with the first item and all others to which one comes from it, from each to those near it."""
+    reached = {first: True}
+    todo = [first]
     while todo:
-        place = todo.pop()
-        for near in nears[place]:
+        item = todo.pop()
+        for near in nears[item]:
             if near not in reached:
                 reached[near] = True
                 todo.append(near)
-    return len(reached) == len(nears)
+    return reached
+
+
+def all_together(nears):
+    """Whether ties lead from the first place to each other one."""
+    return len(reached_from(nears, 0)) == len(nears)
+
+
+def meeting(walls):
+    """For each wall the list of the numbers of the other ones that have a place in common with it."""
+    return [[number for number, other in enumerate(walls) if number != own and not are_apart(wall, other)]
+            for own, wall in enumerate(walls)]
+
+
+def are_apart(wall, other):
+    """Whether two walls have no place in common."""
+    return not any([place in other for place in wall])
 
 
 def begun_at(ring, place):
