@@ -140,7 +140,7 @@ def spread_points(chance, sides, inner):
 
 
 def web(chance, sides, inner, edge, kept):
-    """What Plan takes, for a web of ties within a frame in which most inner places may lie on walls; or None."""
+    """What Plan takes, and the points, for a web of ties within a frame; most inner places may lie on walls."""
     points = spread_points(chance, sides, inner)
     frame = [[corner, (corner + 1) % sides] for corner in range(sides)]
     for _ in range(edge):
@@ -161,7 +161,7 @@ def web(chance, sides, inner, edge, kept):
             ties.append((one, other))
     ties = [tie for tie in ties if chance.random() < kept]
     walls = joined(chance, [list(tie) for tie in ties], range(sides, sides + inner))
-    return sketch(sides, points, [tuple(wall) for wall in frame + walls])[0]
+    return sketch(sides, points, [tuple(wall) for wall in frame + walls])
 
 
 def joined(chance, walls, places):
@@ -180,12 +180,17 @@ def joined(chance, walls, places):
 
 def web_plan(chance, most_walls=14, inner=range(7)):
     """A plan of a web, by chance."""
+    return web_with_points(chance, most_walls, inner)[0]
+
+
+def web_with_points(chance, most_walls=14, inner=range(7)):
+    """A plan of a web, by chance, and the points of its places."""
     while True:
         sides = chance.choice((3, 3, 4, 5))
-        spelled = web(chance, sides, chance.choice(inner), chance.randint(0, 3), chance.choice((0.7, 0.85, 1)))
+        spelled, points = web(chance, sides, chance.choice(inner), chance.randint(0, 3), chance.choice((0.7, 0.85, 1)))
         if len(spelled[1]) <= most_walls:
             try:
-                return Plan(*spelled)
+                return Plan(*spelled), points
             except BadPlan:
                 pass
 

@@ -100,13 +100,19 @@ TEE_STAR = sketch(4, SQUARE + [(2, 3), (2, 0), (6, 3), (2, 6)],
 # A room of five places, three of them stars with ties to corner 2.
 BOWL = sketch(3, TRIANGLE + [(7, 3), (4, 4), (1, 2)],
               TRIANGLE_FRAME + [(1, 3), (3, 4), (4, 5), (5, 0), (2, 3), (2, 4), (2, 5)])
+# Three walls that end at one star; two of them meet at a second place, too.
+TWICE = sketch(3, TRIANGLE + [(3, 3), (6, 2), (2, 6), (5, 5)],
+               TRIANGLE_FRAME + [(0, 3), (3, 4, 1), (3, 6, 4), (3, 5), (5, 2), (5, 6)])
+# Two places beside each other on wall 6, kept there by one wall alone.
+BULGE = sketch(4, SQUARE + [(2, 0), (2, 6), (2, 2), (2, 4), (4, 3), (6, 3)],
+               [(0, 4, 1), (1, 9, 2), (2, 5, 3), (3, 0), (4, 6, 7, 5), (6, 8, 7), (1, 8), (2, 8), (8, 9)])
 
 SKETCHES = {f"bare {sides}": bare(sides) for sides in range(3, 9)}
 SKETCHES.update({
     "split": SPLIT, "tee": TEE, "star": STAR, "pinwheel": PINWHEEL, "hanging": HANGING,
     "hanging straight": HANGING_STRAIGHT, "hanging within": HANGING_WITHIN, "hanging by a cut": HANGING_BY_A_CUT,
     "ring": RING, "crossed ring": CROSSED_RING, "lens": LENS, "bigon": BIGON, "tee star": TEE_STAR, "bowl": BOWL,
-    "two hanging": TWO_HANGING, "octagon": OCTAGON, "pentagon": PENTAGON,
+    "two hanging": TWO_HANGING, "twice": TWICE, "bulge": BULGE, "octagon": OCTAGON, "pentagon": PENTAGON,
     "fan": fan(5), "crossed fan": crossed_fan(4), "wheel": wheel(3), "full fan": fan(37),
     "full crossed fan": crossed_fan(35), "full wheel": wheel(34)})
 

@@ -18,6 +18,11 @@ FUNCTIONS = {
                 "even_weights": ["plan"], "drawing": ["plan", "frame", "weights"]},
     "built": {"fault": ["plan", "thing"], "is_built": ["plan", "thing"], "areas": ["plan", "drawing"],
               "hit": ["plan", "drawing", "point"], "picture": ["plan", "drawing", "wide", "high"]},
+    "moves": {"weights_of": ["plan", "drawing"], "mixed": ["plan", "one", "other", "moment"],
+              "lead": ["plan", "one", "other", "moment"], "is_weights_of": ["plan", "drawing", "thing"]},
+    "editing": {"put": ["plan", "room", "one", "other"], "strike": ["plan", "wall"], "cut": ["plan", "place"],
+                "join": ["plan", "place", "one", "other"]},
+    "growing": {"bare": ["sides"], "grown": ["sides", "thing"], "growth": ["plan"], "is_growth": ["plan", "thing"]},
 }
 CLASSES = {
     "plans": {"Plan": {"__init__": ["self", "sides", "walls", "rounds"], "__eq__": ["self", "other"]}},

@@ -328,7 +328,7 @@ class NarrowLots(unittest.TestCase):
             self.assertIs(can_build(plan), lot is None, name)
             self.assertEqual(lot is not None,
                              name in ("hanging", "hanging straight", "hanging by a cut", "hanging within",
-                                      "two hanging", "lens", "bigon"))
+                                      "two hanging", "lens", "bigon", "twice", "bulge"))
             if lot is not None:
                 self.assertIs(type(lot), tuple)
                 self.assertTrue(is_narrow(plan, lot))

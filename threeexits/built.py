@@ -3,7 +3,7 @@
 from threeexits.cells import across, inside, over_cells
 from threeexits.drawing import is_frame
 from threeexits.errors import NoDrawing, NoNumber, NoPoint
-from threeexits.places import many_places, rooms
+from threeexits.places import many_places, rooms, walls_by_step
 from threeexits.points import are_points, is_point, lowest, onward, stretched, turn
 from threeexits.webs import is_integer, steps_of
 
@@ -41,16 +41,6 @@ def is_straight(points):
         return False
     return all([turn(one, here, other) == 0 and onward(one, here, other) > 0
                 for one, here, other in zip(points, points[1:], points[2:])])
-
-
-def walls_by_step(plan):
-    """A dict: for each step along a tie the number of the wall that is walked."""
-    found = {}
-    for number, along in enumerate(plan.walls):
-        for one, other in zip(along, along[1:]):
-            found[one, other] = number
-            found[other, one] = number
-    return found
 
 
 def turns_left(points, strokes, rim):

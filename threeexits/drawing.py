@@ -80,6 +80,11 @@ def drawing(plan, frame, weights):
     lot = narrow(plan)
     if lot is not None:
         raise Narrow(lot)
+    return placed(plan, frame, weights)
+
+
+def placed(plan, frame, weights):
+    """The points of all places, by a frame and weights, for a plan without narrow lots."""
     others = range(plan.sides, many_places(plan))
     return solved(frame, {place: mean_of(plan, place, weights[place]) for place in others})
 

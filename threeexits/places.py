@@ -45,6 +45,21 @@ def is_place(plan, thing):
     return is_integer(thing) and 0 <= thing < many_places(plan)
 
 
+def is_star(plan, place):
+    """Whether a place is no corner and lies on no wall."""
+    return place >= plan.sides and lies_on(plan, place) is None
+
+
+def walls_by_step(plan):
+    """A dict: for each step along a tie the number of the wall that is walked."""
+    found = {}
+    for number, along in enumerate(plan.walls):
+        for one, other in zip(along, along[1:]):
+            found[one, other] = number
+            found[other, one] = number
+    return found
+
+
 def mirrored(plan):
     """The plan as a mirror shows it; corner 0 and the places that are no corners keep their names."""
     sides = plan.sides

@@ -8,7 +8,7 @@ many ways lead from some walls to corners as the fewest exits are that any walls
 have to which these belong.
 """
 
-from threeexits.places import lies_on
+from threeexits.places import is_star
 from threeexits.webs import meeting, reached_from
 
 # Walls are told by their numbers, the way in and the way out of a place by pairs.
@@ -58,11 +58,6 @@ def arcs_of(plan):
             if is_star(plan, place):
                 add_arc(arcs, ("out", place), number, 1)
     return arcs
-
-
-def is_star(plan, place):
-    """Whether a place is no corner and lies on no wall."""
-    return place >= plan.sides and lies_on(plan, place) is None
 
 
 def add_arc(arcs, node, near, many):
