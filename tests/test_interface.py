@@ -23,9 +23,15 @@ FUNCTIONS = {
     "editing": {"put": ["plan", "room", "one", "other"], "strike": ["plan", "wall"], "cut": ["plan", "place"],
                 "join": ["plan", "place", "one", "other"]},
     "growing": {"bare": ["sides"], "grown": ["sides", "thing"], "growth": ["plan"], "is_growth": ["plan", "thing"]},
+    "healing": {"after_cuts": ["plan", "places"], "heals": ["plan", "thing"], "fewest_cuts": ["plan"]},
+    "texts": {"plan_text": ["plan"], "drawing_text": ["drawing"], "read_plan": ["text"], "read_drawing": ["text"]},
+    "journals": {"journal": ["desk"], "recovered": ["text"]},
 }
 CLASSES = {
     "plans": {"Plan": {"__init__": ["self", "sides", "walls", "rounds"], "__eq__": ["self", "other"]}},
+    "desk": {"Desk": {"__init__": ["self", "sides"], "do": ["self", "deed"], "back": ["self"], "plan": ["self"],
+                      "log": ["self"], "corners": ["self"], "copy": ["self"], "narrow": ["self"],
+                      "draw": ["self", "frame"], "changed": ["self"]}},
 }
 
 

@@ -5,7 +5,7 @@ from itertools import combinations
 from threeexits.errors import NoLot, NoWalls, TooMany
 from threeexits.places import rooms
 from threeexits.ways import ENOUGH, with_few_exits
-from threeexits.webs import is_row, meeting, reached_from, rim_from, step_without, steps_of
+from threeexits.webs import is_ascending, meeting, reached_from, rim_from, step_without, steps_of
 
 MOST_TRIED = 14
 WITHOUT = 0
@@ -69,9 +69,7 @@ def all_narrow(plan):
 
 def hang_together(plan, thing):
     """Whether it is an ascending tuple of one number or more of walls that hang together."""
-    if not is_row(thing) or thing == () or thing[0] < 0 or thing[-1] >= len(plan.walls):
-        return False
-    if not all([earlier < later for earlier, later in zip(thing, thing[1:])]):
+    if not is_ascending(thing) or thing == () or thing[0] < 0 or thing[-1] >= len(plan.walls):
         return False
     return are_linked(meeting(plan.walls), thing)
 

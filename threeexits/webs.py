@@ -14,6 +14,11 @@ def is_row(thing):
     return isinstance(thing, tuple) and all([is_integer(item) for item in thing])
 
 
+def is_ascending(thing):
+    """Whether it is a tuple of integers, each greater than the one ahead of it."""
+    return is_row(thing) and all([earlier < later for earlier, later in zip(thing, thing[1:])])
+
+
 def ties_along(walls):
     """The ties of the walls as pairs, the lesser place first, in the order of the walls."""
     return [(min(pair), max(pair)) for wall in walls for pair in zip(wall, wall[1:])]
