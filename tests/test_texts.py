@@ -31,9 +31,13 @@ round 2 3 4
 LINES = SPLIT_TEXT.split("\n")[:-1]
 
 
+def text_of(lines):
+    return "".join(line + "\n" for line in lines)
+
+
 def with_line(number, line):
     """The text of SPLIT with another line of this number."""
-    return "\n".join(LINES[:number - 1] + [line] + LINES[number:]) + "\n"
+    return text_of(LINES[:number - 1] + [line] + LINES[number:])
 
 
 def no_strings():
@@ -150,6 +154,20 @@ class ReadPlan(Texts):
         self.assertBadText(read_plan, "sides 4\nround 0 1\n", 2)
         self.assertBadText(read_plan, "sides 4\nwall 0 1\nround 1", 3)
         self.assertBadPlan("sides 4\nwall 0 1\nround 1\n", "walls")
+
+    def test_lines_left_out_twice_or_exchanged(self):
+        self.assertBadText(read_plan, text_of(LINES[1:]), 1)
+        self.assertBadText(read_plan, text_of(LINES[:1] + LINES), 2)
+        left_out = ["frame", "frame", "frame", "frame", "stars"] + ["rounds"] * 6
+        twice = ["frame", "frame", "frame", "ties", "ties"] + ["rounds"] * 6
+        for at in range(1, len(LINES)):
+            self.assertBadPlan(text_of(LINES[:at] + LINES[at + 1:]), left_out[at - 1])
+            self.assertBadPlan(text_of(LINES[:at] + LINES[at:at + 1] + LINES[at:]), twice[at - 1])
+        self.assertBadText(read_plan, text_of(LINES[:1] + LINES[6:]), 2)
+        self.assertBadText(read_plan, text_of(LINES[:6]), 7)
+        self.assertBadText(read_plan, text_of(LINES[1:2] + LINES[:1] + LINES[2:]), 1)
+        self.assertBadText(read_plan, text_of(LINES[:5] + LINES[6:7] + LINES[5:6] + LINES[7:]), 7)
+        self.assertBadPlan(text_of(LINES[:6] + LINES[7:8] + LINES[6:7] + LINES[8:]), "rounds")
 
     def test_the_first_bad_line_is_told(self):
         self.assertBadText(read_plan, "sides 04\nwall\nround\n", 1)
