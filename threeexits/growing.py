@@ -96,8 +96,8 @@ def put_again(sides, taken):
         spots = [spot_of(names, end) for end in ends]
         triple = (room_of(plan, names, ends[0]), spots[0], spots[1])
         triples.append(triple)
-        for place, _, _ in ends:
-            names.setdefault(place, len(names))
+        for end in ends:
+            names.setdefault(end[0], len(names))
         plan = with_triple(plan, triple)
     return tuple(triples)
 
